@@ -259,6 +259,30 @@ func TestPoints(t *testing.T) {
 	}
 }
 
+// P15.1: a read has its point before or at its first word, a Deref at line 60 and a Peek at line 62 with J 0, however many words it reads.
+func TestPointOfAReadIsBeforeItsSecondWord(t *testing.T) {
+	for words := 1; words <= api.MaxWords; words++ {
+		c := config
+		c.Words = words
+		h := newHall(t, c, []api.Op{pin, alloc, deref, peek, peek})
+		for h.Left(0) > 3 || h.Work(0).Line != 0 {
+			h.Pick(0)
+		}
+		n := len(h.Events())
+		finish(t, h, 0)
+		var kinds []int
+		for _, e := range h.Events()[n:] {
+			kinds = append(kinds, e.Kind)
+		}
+		more := slices.Repeat([]int{api.EStep}, words-1)
+		wantDeref := slices.Concat([]int{api.ECall, api.EStep, api.EPoint, api.EStep}, more, []int{api.EReturn})
+		wantPeek := slices.Concat([]int{api.ECall, api.EStep, api.EPoint}, more, []int{api.EReturn})
+		if want := slices.Concat(wantDeref, wantPeek, wantPeek); !slices.Equal(kinds, want) {
+			t.Errorf("%d words: events %v, want %v", words, kinds, want)
+		}
+	}
+}
+
 // P15.1: an Alloc that finds no block has its point at line 38.
 func TestPointOfAFullPool(t *testing.T) {
 	c := config

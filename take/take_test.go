@@ -94,6 +94,7 @@ func TestLines(t *testing.T) {
 		{"nothing there", at(t, all), api.Work{Line: 38, U: 5, J: 3}, api.Work{U: 5, J: 3}, api.None},
 		{"another version", at(t, all), api.Work{Line: 38, U: 4}, api.Work{Line: 10, U: 4}, api.Going},
 		{"a block came", at(t, all, 3), api.Work{Line: 38, U: 5}, api.Work{Line: 10, U: 5}, api.Going},
+		{"block 0 came", at(t, all, 0), api.Work{Line: 38, U: 5}, api.Work{Line: 10, U: 5}, api.Going},
 		{"another version, rack not empty", at(t, all), api.Work{Line: 38, U: 4, Rack: []int{2}}, api.Work{Line: 35, B: 3, U: 4}, api.Going},
 	} {
 		got, outcome, ok := Step(c.m, c.x)
