@@ -12,7 +12,7 @@ import (
 	"coatcheck/epoch"
 	"coatcheck/give"
 	"coatcheck/hall"
-	"coatcheck/ideal"
+	"coatcheck/order"
 	"coatcheck/pack"
 	"coatcheck/plan"
 	"coatcheck/slab"
@@ -301,50 +301,28 @@ func touched(x *run, e api.Event) (block int, payload, ok bool) {
 	return 0, false, false
 }
 
-// P2: the answers in the order of their points are allowed by the sequential specification.
+// P2: every execution is linearizable, and so is each that ends earlier.
 func TestLinearizable(t *testing.T) {
 	rets := map[api.Errno]int{}
 	for _, x := range random(t, 4, 120, 2000) {
-		p := ideal.New(x.c.Words)
-		for i, a := range answers(x.events) {
-			rets[a.Ret]++
-			if !p.Step(a) {
-				t.Fatalf("answer %d is not allowed: %+v, configuration %+v", i, a, x.c)
+		for _, l := range [][]api.Event{x.events, x.events[:len(x.events)/2], x.events[:len(x.events)/3]} {
+			answers := order.Of(l)
+			if n := order.Fits(x.c.Words, l); n != len(answers) {
+				t.Fatalf("answer %d is not allowed: %+v, configuration %+v", n, answers[n], x.c)
+			}
+			if !order.Whole(l) || !order.Keeps(l) {
+				t.Fatalf("whole %v, keeps %v, configuration %+v", order.Whole(l), order.Keeps(l), x.c)
+			}
+			for _, a := range answers {
+				rets[a.Ret]++
 			}
 		}
 	}
 	for _, ret := range []api.Errno{api.OK, api.ErrFull, api.ErrBusy, api.ErrStale, api.ErrBad, api.ErrState} {
-		if rets[ret] < 50 {
+		if rets[ret] < 100 {
 			t.Errorf("only %d answers with %d", rets[ret], ret)
 		}
 	}
-}
-
-// id is an operation of a run.
-type id struct{ worker, n int }
-
-// answers returns the answers of operations in the order of their points. A read that has not returned has none.
-func answers(l []api.Event) []api.Answer {
-	returned := map[id]api.Answer{}
-	for _, e := range l {
-		if e.Kind == api.EReturn {
-			returned[id{e.Worker, e.N}] = e.Answer
-		}
-	}
-	var all []api.Answer
-	for _, e := range l {
-		if e.Kind != api.EPoint {
-			continue
-		}
-		a, ok := returned[id{e.Worker, e.N}]
-		if !ok {
-			a = e.Answer
-		}
-		if reads := a.Op.Kind == api.OpDeref || a.Op.Kind == api.OpPeek; ok || !reads || a.Ret != api.OK {
-			all = append(all, a)
-		}
-	}
-	return all
 }
 
 // P2: what a Deref or a Peek reads is the payload of one number, and a Peek reads what the Deref before it read.
@@ -379,6 +357,9 @@ func TestReadsAreWhole(t *testing.T) {
 		t.Errorf("only %d reads, %d of them by Peek", reads, peeks)
 	}
 }
+
+// id is an operation of a run.
+type id struct{ worker, n int }
 
 // P15.3: each operation has one call, then at most one point, then at most one return, never a return without a point, in program order.
 func TestCallPointReturn(t *testing.T) {
